@@ -1,0 +1,1 @@
+"""Remadehere: a text made another one in its own room, whatever cuts it off."""
