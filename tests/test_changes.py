@@ -218,7 +218,8 @@ class Looking(unittest.TestCase):
 
     def test_equal_to_nothing_else(self):
         for made in (Change(0, []), Change(2, [("copy", 0, 2)])):
-            for thing in (None, 0, 2, "", str(made), [], made.rows, (), (made.size, made.rows), {}, True, False, Change):
+            things = [None, 0, 2, "", str(made), [], made.rows, (), (made.size, made.rows), {}, True, False, Change]
+            for thing in things:
                 self.assertFalse(made == thing)
                 self.assertFalse(thing == made)
                 self.assertTrue(made != thing)
@@ -415,7 +416,8 @@ class Undone(unittest.TestCase):
         self.assertEqual(undone(Change(1, [("copy", 0, 1)] * 400), "a"), Change(400, [("copy", 0, 1)]))
 
     def test_places_not_copied_are_put(self):
-        self.assertEqual(undone(Change(4, [("copy", 1, 1)]), "abcd"), Change(1, [("put", "a"), ("copy", 0, 1), ("put", "cd")]))
+        wanted = Change(1, [("put", "a"), ("copy", 0, 1), ("put", "cd")])
+        self.assertEqual(undone(Change(4, [("copy", 1, 1)]), "abcd"), wanted)
         self.assertEqual(undone(Change(4, []), "abcd"), Change(0, [("put", "abcd")]))
         # The new text has these signs, but not from the old places.
         self.assertEqual(undone(Change(2, [("put", "ab")]), "ab"), Change(2, [("put", "ab")]))

@@ -37,7 +37,7 @@ def counted(rows, price):
 
 
 def least_cost(old, new, price):
-    """The least cost, counted sign by sign: what it costs to have come here by a put, or by a copy of each old place."""
+    """The least cost, counted sign by sign: to have come so far by a put, or by a copy of each old place."""
     least, put, copies = 0, None, {}
     for sign in new:
         fresh = least + price
